@@ -1,1 +1,1 @@
-"""Teams at once: several teams act in one house, and which mixings of their acts come to the same."""
+"""Teams at once: which mixings of teams' acts come to the same, and when teams on one path may begin."""

@@ -54,6 +54,16 @@ def normal_form(teams, order):
     return form
 
 
+def hang_at(teams, order, place):
+    """Whether the acts at this place and the next one hang on one another."""
+    acts = acts_in(order)
+    return hang_together(teams, acts[place], acts[place + 1])
+
+
+def swapped(order, place):
+    return order[:place] + [order[place + 1], order[place]] + order[place + 2:]
+
+
 def levels_in(teams, order):
     acts = acts_in(order)
     levels = []

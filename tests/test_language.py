@@ -95,6 +95,15 @@ class LanguageTest(unittest.TestCase):
         given = {node.attr for where, node in self.nodes(ast.Attribute) if isinstance(node.ctx, ast.Store)}
         self.assertEqual(methods & given, set())
 
+    def test_powers_have_a_written_exponent(self):
+        for where, node in self.nodes(ast.BinOp):
+            if isinstance(node.op, (ast.Pow, ast.LShift)):
+                self.assertIsInstance(node.right, ast.Constant, where)
+
+    def test_comprehensions_have_one_for(self):
+        for where, node in self.nodes(ast.ListComp):
+            self.assertTrue(len(node.generators) == 1 and len(node.generators[0].ifs) <= 1, where)
+
     def test_plain_constants(self):
         for where, node in self.nodes(ast.Constant):
             self.assertIsInstance(node.value, (int, str, type(None)), where)
